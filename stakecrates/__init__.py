@@ -1,0 +1,1 @@
+"""Stakecrates: bottles that come back for a sum, and the crates they lie in."""

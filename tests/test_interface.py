@@ -1,0 +1,39 @@
+"""The names and arguments of the interface, and where its methods stand."""
+
+import importlib
+import inspect
+import unittest
+
+FUNCTIONS = {
+    "names": ["is_name(thing)", "is_day(thing)"],
+}
+CLASSES = {
+    "stakes": {"Stakes(rows=None)": ["stake(sort, day)", "changes(sort)", "sorts()", "put(sort, day, amount)"]},
+}
+
+
+def module(name):
+    return importlib.import_module("stakecrates." + name)
+
+
+class InterfaceTest(unittest.TestCase):
+    def test_functions(self):
+        for name, functions in FUNCTIONS.items():
+            for function in functions:
+                word, mark, arguments = function.partition("(")
+                made = getattr(module(name), word)
+                self.assertEqual(str(inspect.signature(made)), mark + arguments, function)
+
+    def test_classes_and_their_own_methods(self):
+        for name, classes in CLASSES.items():
+            for made, methods in classes.items():
+                word, mark, arguments = made.partition("(")
+                own = getattr(module(name), word)
+                self.assertEqual(str(inspect.signature(own)), mark + arguments, made)
+                for method in methods:
+                    self.check_method(own, method)
+
+    def check_method(self, own, method):
+        word, mark, arguments = method.partition("(")
+        told = "(self)" if arguments == ")" else "(self, " + arguments
+        self.assertEqual(str(inspect.signature(vars(own)[word])), told, method)
