@@ -6,9 +6,18 @@ import unittest
 
 FUNCTIONS = {
     "names": ["is_name(thing)", "is_day(thing)"],
+    "loads": ["in_order(loads, key=None)"],
+    "texts": ["read_stakes(text)", "read_load(text)", "read_crate(text)"],
+    "packing": ["packed(load, wide, deep, apart=False)"],
 }
 CLASSES = {
     "stakes": {"Stakes(rows=None)": ["stake(sort, day)", "changes(sort)", "sorts()", "put(sort, day, amount)"]},
+    "loads": {"Load(rows=None)": [
+        "many_of(house, sort)", "kinds()", "bottles()", "plus(other)", "less(other)", "within(other)",
+        "part(house=None, sort=None)", "worth(stakes, day)"]},
+    "crates": {"Crate(wide, deep, places=None)": [
+        "places()", "bottle(at)", "filled(at, house, sort)", "emptied(at)", "inside()", "short_by()", "turned()",
+        "worth(stakes, day, box=0)"]},
 }
 
 

@@ -229,7 +229,7 @@ class RefusalsTest(things.Refusals, unittest.TestCase):
             self.refused_with(NoRows, "number", None, Stakes, rows=thing)
 
     def test_wrong_rows(self):
-        wrong = [thing for thing in [None] + things.NO_ROWS + things.ROWS]
+        wrong = [None] + things.NO_ROWS + things.ROWS
         wrong += [["x", 1, 2], ("x", 1), ("x", 1, 2, 3), (), ("x",)]
         wrong += [(thing, 1, 2) for thing in things.NO_NAMES]
         wrong += [("x", thing, 2) for thing in things.NO_DAYS]
