@@ -26,3 +26,11 @@ def check_row(rows):
     """Refuse what is no row at all; what stands in it is not looked at."""
     if not is_row(rows):
         raise NoRows(None)
+
+
+def check_rows(rows, is_right):
+    """Refuse what is no row, or has something in it that isn't right."""
+    check_row(rows)
+    for number, row in enumerate(rows):
+        if not is_right(row):
+            raise NoRows(number)

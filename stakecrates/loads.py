@@ -1,7 +1,7 @@
 """Loads: how many bottles of which house and sort."""
 
-from stakecrates.checks import check_day, check_name, check_row
-from stakecrates.errors import Lacks, NoLoad, NoRows
+from stakecrates.checks import check_day, check_name, check_rows
+from stakecrates.errors import Lacks, NoLoad
 from stakecrates.lines import NONE, row_lines
 from stakecrates.names import is_name, is_row, is_whole
 from stakecrates.stakes import check_stakes
@@ -13,14 +13,6 @@ def is_load_row(thing):
     """Whether a thing is a tuple (HOUSE, SORT, MANY)."""
     return (isinstance(thing, tuple) and len(thing) == 3
             and is_name(thing[0]) and is_name(thing[1]) and is_whole(thing[2], 0, MOST_IN_ROW))
-
-
-def check_load_rows(rows):
-    """Refuse what are no rows of a Load."""
-    check_row(rows)
-    for number, row in enumerate(rows):
-        if not is_load_row(row):
-            raise NoRows(number)
 
 
 def together(rows):
@@ -36,7 +28,7 @@ class Load:
 
     def __init__(self, rows=None):
         given = () if rows is None else rows
-        check_load_rows(given)
+        check_rows(given, is_load_row)
         self.rows = together(given)
 
     def many_of(self, house, sort):

@@ -9,6 +9,11 @@ FUNCTIONS = {
     "loads": ["in_order(loads, key=None)"],
     "texts": ["read_stakes(text)", "read_load(text)", "read_crate(text)"],
     "packing": ["packed(load, wide, deep, apart=False)"],
+    "dealings": ["is_dealing(outs, backs, thing)", "dealt(outs, backs, by=None)", "sum_back(outs, backs, dealing)",
+                 "left(outs, backs, dealing)"],
+    "elders": ["elder(outs, backs, day)", "dealt_to(outs, backs, day, many)"],
+    "sums": ["sums_out(outs, backs)", "each_back(outs, backs, by=None)"],
+    "stores": ["in_store(rows, day, start=None)", "least_start(rows)"],
 }
 CLASSES = {
     "stakes": {"Stakes(rows=None)": ["stake(sort, day)", "changes(sort)", "sorts()", "put(sort, day, amount)"]},

@@ -11,8 +11,8 @@ FILES = sorted(FOLDER.glob("*.py"))
 BARRED = ("typing typing_extensions enum Enum IntEnum StrEnum Flag IntFlag Generic Protocol ABC ABCMeta namedtuple "
           "NamedTuple TypedDict TYPE_CHECKING abstractmethod type").split()
 USED_BUILTINS = set(
-    "len range enumerate zip min max sum abs sorted reversed int str bool list tuple dict set isinstance ord repr any "
-    "all divmod ValueError KeyError LookupError ArithmeticError super".split())
+    "len range enumerate zip min max sum abs sorted reversed int str bool bytes list tuple dict set isinstance ord "
+    "repr any all divmod ValueError KeyError LookupError ArithmeticError super".split())
 METHODS = set(
     "append clear copy count endswith extend find get index insert isalnum isalpha isdigit islower isspace isupper "
     "items join keys ljust lower lstrip partition pop remove replace reverse rfind rjust rpartition rsplit rstrip "
@@ -61,6 +61,8 @@ class LanguageTest(unittest.TestCase):
                 for sign, right in zip(node.ops, node.comparators):
                     if isinstance(sign, (ast.Is, ast.IsNot)):
                         self.assertIsInstance(right, ast.Constant)
+            for node in nodes(path, ast.Call):
+                self.assertNotEqual(getattr(node.func, "id", None), "bytes", path)
             for node in nodes(path, ast.Raise):
                 self.assertIsInstance(node.exc, ast.Call)
 
