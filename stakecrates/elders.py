@@ -1,7 +1,7 @@
 """How many bottles that went out ahead of a day are still out, at least and at most."""
 
 from stakecrates.checks import check_day
-from stakecrates.dealings import check_backs, check_outs, check_short, dealt, left, take
+from stakecrates.dealings import check_backs, check_outs, dealt, left, take
 from stakecrates.errors import NoMany
 from stakecrates.names import is_whole
 
@@ -17,7 +17,6 @@ def elder(outs, backs, day):
     check_outs(outs)
     check_backs(backs)
     check_day(day)
-    check_short(outs, backs)
     # What is there for one BACK is there for all behind it, so taking the eldest always takes as many elder ones
     # as can be, and taking the newest as few.
     return elder_left(outs, backs, day, "first"), elder_left(outs, backs, day, "last")
@@ -43,4 +42,5 @@ def dealt_with(outs, backs, elders, others, due):
         due -= old
         taken.extend(take(outs, rest, others, day, many - old))
         dealing.extend([(number, out, took) for out, took in taken])
-    return tuple(sorted(dealing))
+    # Elder ones have the lesser numbers, so this rises as it is.
+    return tuple(dealing)

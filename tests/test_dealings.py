@@ -42,12 +42,19 @@ class IsDealingTest(unittest.TestCase):
                 ((0, 0, 1), (1, 0, 2), (1, 1, 1), (2, 1, 1)),
                 ((0, 0, 1), (1, 0, 2), (1, 2, 1)),
                 ((0, 0, 1), (1, 0, 2), (1, -1, 1)),
+                ((0, 0, 1), (1, -1, 1), (1, 0, 2)),
+                ((-1, 0, 2), (-1, 1, 1), (0, 0, 1)),
                 ((-1, 0, 1), (0, 0, 1), (1, 0, 1), (1, 1, 2)),
                 ((0, 0, 1), (1, 0, 3), (1, 1, 0)),
                 ((0, 0, 1), (1, 0, 2), (1, 1, 1), (1, 2, 0)),
                 ((0, 0, 2), (0, 1, -1), (1, 0, 1), (1, 1, 2)),
                 ()):
             self.assertIs(is_dealing(outs, backs, thing), False, thing)
+        self.assertIs(is_dealing(((2, 9, 1),), ((2, 3),), ((0, 0, 3),)), True)
+        for thing in (((0, 0, 1), (0, 0, 2)), ((0, 0, 2), (0, 0, 1))):
+            self.assertIs(is_dealing(((2, 9, 1),), ((2, 3),), thing), False, thing)
+        self.assertIs(is_dealing(outs, ((2, 1), (7, 2)), ((0, 0, 1), (1, 0, 2))), True)
+        self.assertIs(is_dealing(outs, ((2, 1), (7, 2)), ((0, 0, 1), (1, 0, 2), (1, 1, 0))), False)
 
     def test_no_back_is_dealt_to_an_out_behind_its_day(self):
         outs = ((2, 9, 1), (5, 9, 1), (6, 9, 1))
@@ -228,6 +235,7 @@ class RefusalsTest(things.Refusals, unittest.TestCase):
     def test_days_of_outs_rise(self):
         for day in (2, 1, 0):
             self.all_refuse(NoOuts, 2, [(1, 1, 1), (2, 1, 1), (day, 1, 1), (0, 1, 1)], ())
+            self.all_refuse(NoOuts, 1, [(2, 1, 1), (day, 1, 1)], ())
         self.assertEqual(dealt([(0, 1, 0), (1, 99999, 9999), (9999, 1, 1)], ()), ())
 
     def test_wrong_backs(self):
@@ -241,6 +249,7 @@ class RefusalsTest(things.Refusals, unittest.TestCase):
     def test_days_of_backs_do_not_fall(self):
         for day in (1, 0):
             self.all_refuse(NoBacks, 2, OUTS, [(1, 1), (2, 1), (day, 1), (0, 1)])
+            self.all_refuse(NoBacks, 1, OUTS, [(2, 1), (day, 1)])
         self.assertEqual(dealt(OUTS, ((2, 1), (2, 1), (2, 1))), ((0, 0, 1), (1, 0, 1), (2, 0, 1)))
 
     def test_outs_ahead_of_backs_however_handed_in(self):
