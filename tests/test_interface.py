@@ -14,6 +14,9 @@ FUNCTIONS = {
     "elders": ["elder(outs, backs, day)", "dealt_to(outs, backs, day, many)"],
     "sums": ["sums_out(outs, backs)", "each_back(outs, backs, by=None)"],
     "stores": ["in_store(rows, day, start=None)", "least_start(rows)"],
+    "ledgers": ["is_deed(thing)", "is_ledger(thing)", "stands(ledger)", "out_on(ledger, origin, sort, day)",
+                "store_on(ledger, house, day)"],
+    "evening": ["evened(debts)", "fewest(debts)"],
 }
 CLASSES = {
     "stakes": {"Stakes(rows=None)": ["stake(sort, day)", "changes(sort)", "sorts()", "put(sort, day, amount)"]},
@@ -23,6 +26,7 @@ CLASSES = {
     "crates": {"Crate(wide, deep, places=None)": [
         "places()", "bottle(at)", "filled(at, house, sort)", "emptied(at)", "inside()", "short_by()", "turned()",
         "worth(stakes, day, box=0)"]},
+    "debts": {"Debts(rows=None)": ["owes(house, other)", "pairs()", "balances()", "plus(other)"]},
 }
 
 
