@@ -3,7 +3,7 @@
 from stakecrates.checks import check_day, check_name, check_row
 from stakecrates.errors import LacksAt, NoRows, NotOut
 from stakecrates.loads import Load, load_of
-from stakecrates.names import is_day, is_name, is_row, is_whole
+from stakecrates.names import is_day, is_name, is_row, is_whole, is_word
 from stakecrates.stores import in_store, lacks_of
 
 MOST_ENTRIES = 40
@@ -34,7 +34,7 @@ def fits_home(parts):
 
 def fits_broken(parts):
     """Whether these parts are as those of a back, and WHERE."""
-    return len(parts) == 5 and fits_back(parts[:4]) and isinstance(parts[4], str) and parts[4] in PLACES
+    return len(parts) == 5 and fits_back(parts[:4]) and is_word(parts[4], PLACES)
 
 
 def fits_paid(parts):
@@ -49,7 +49,7 @@ FORMS = {"out": fits_out, "back": fits_back, "home": fits_home, "wash": fits_out
 
 def is_deed(thing):
     """Whether a thing is a deed."""
-    if not isinstance(thing, tuple) or len(thing) == 0 or not isinstance(thing[0], str) or thing[0] not in FORMS:
+    if not isinstance(thing, tuple) or len(thing) == 0 or not is_word(thing[0], tuple(FORMS)):
         return False
     fits = FORMS[thing[0]]
     return fits(thing[1:])

@@ -1,4 +1,4 @@
-"""What a name, a day, an amount and a row are."""
+"""What a name, a word, a day, an amount and a row are."""
 
 LETTERS = "abcdefghijklmnopqrstuvwxyz"
 
@@ -11,6 +11,11 @@ def is_whole(thing, least, greatest):
 def is_name(thing):
     """Whether a thing is a text of one to six small letters."""
     return isinstance(thing, str) and 1 <= len(thing) <= 6 and all([sign in LETTERS for sign in thing])
+
+
+def is_word(thing, words):
+    """Whether a thing is a text that is one of these words."""
+    return isinstance(thing, str) and thing in words
 
 
 def is_day(thing):

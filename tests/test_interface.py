@@ -17,6 +17,10 @@ FUNCTIONS = {
     "ledgers": ["is_deed(thing)", "is_ledger(thing)", "stands(ledger)", "out_on(ledger, origin, sort, day)",
                 "store_on(ledger, house, day)"],
     "evening": ["evened(debts)", "fewest(debts)"],
+    "money": ["is_rules(thing)", "account(rules, ledger, origin, sort)", "given_back(rules, ledger, origin, sort)",
+              "debts_on(rules, ledger, day)"],
+    "rounds": ["need(stops)", "least_room(stops)"],
+    "checker": ["holds(claim, paper)"],
 }
 CLASSES = {
     "stakes": {"Stakes(rows=None)": ["stake(sort, day)", "changes(sort)", "sorts()", "put(sort, day, amount)"]},
