@@ -6,19 +6,12 @@ behind the lines ahead, whatever comes behind it.
 
 from stakecrates.crates import DEEPEST, EMPTY_WORD, WIDEST, Crate, is_place
 from stakecrates.errors import NoText
-from stakecrates.lines import NONE
+from stakecrates.lines import NONE, is_number
 from stakecrates.loads import load_of
 from stakecrates.names import is_name
 from stakecrates.stakes import Stakes, is_stake_row
 
-FIGURES = "0123456789"
 MOST_FIGURES = 12
-
-
-def is_number(word):
-    """Whether a word is a number as it is told, without noughts ahead."""
-    return (1 <= len(word) <= MOST_FIGURES and all([sign in FIGURES for sign in word])
-            and (word == "0" or word[0] != "0"))
 
 
 def lines_of(text):
@@ -40,7 +33,7 @@ def lines_of_rows(text):
 
 def stake_row(words):
     """The row of Stakes that has these words, None where there is none."""
-    if len(words) != 3 or not is_number(words[1]) or not is_number(words[2]):
+    if len(words) != 3 or not is_number(words[1], MOST_FIGURES) or not is_number(words[2], MOST_FIGURES):
         return None
     row = (words[0], int(words[1]), int(words[2]))
     return row if is_stake_row(row) else None
@@ -58,7 +51,7 @@ def load_row(words):
     """The row of a Load that has these words, None where there is none."""
     if len(words) != 3 or not is_name(words[0]) or not is_name(words[1]):
         return None
-    if not is_number(words[2]) or words[2] == "0":
+    if not is_number(words[2], MOST_FIGURES) or words[2] == "0":
         return None
     return words[0], words[1], int(words[2])
 

@@ -2,6 +2,8 @@
 
 import itertools
 
+from tests.test_evening import partings
+
 
 def whole(thing):
     return type(thing) is int
@@ -190,16 +192,6 @@ def evened_right(claim, paper):
     word, balances, moved = claim
     return (balances_right(balances, paper) and moved == sum(going[2] for going in paper)
             and moved == sum(much for house, much in balances if much > 0))
-
-
-def partings(members):
-    if not members:
-        yield []
-        return
-    for parting in partings(members[1:]):
-        yield [[members[0]]] + parting
-        for at in range(len(parting)):
-            yield parting[:at] + [[members[0]] + parting[at]] + parting[at + 1:]
 
 
 def fewest_right(claim, paper):

@@ -1,6 +1,7 @@
 """Small OUTS and BACKS, and all dealings of them, found one by one."""
 
 import itertools
+import random
 
 
 def all_outs(days, manies, amounts):
@@ -77,3 +78,16 @@ def first_short(outs, backs):
         if more > 0:
             return number, more
     return None
+
+
+def some_rows(seed, few, more):
+    """OUTS and BACKS of alike days and AMOUNTs, with AMOUNT 0, some of them short; all so small that all is tried."""
+    source = random.Random(seed)
+    every = itertools.product(all_outs((1, 3), (1, 2), (0, 4)), all_backs((0, 2, 3), (1, 2), 2))
+    rows = source.sample(list(every), few)
+    for turn in range(more):
+        days = sorted(source.sample(range(7), source.randrange(1, 4)))
+        outs = tuple((day, source.randrange(1, 4), source.choice((0, 3, 3, 5, 9))) for day in days)
+        came = sorted(source.randrange(8) for one in range(source.randrange(4)))
+        rows.append((outs, tuple((day, source.randrange(1, 3)) for day in came)))
+    return rows + [((), ()), (((2, 3, 15), (5, 2, 8), (7, 4, 20)), ((5, 1), (7, 2), (7, 3)))]

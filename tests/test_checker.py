@@ -11,6 +11,8 @@ from stakecrates.debts import Debts
 from stakecrates.loads import Load
 from stakecrates.stakes import Stakes
 from tests import claims, small, things
+from tests.test_evening import partings
+from tests.test_rounds import counted_need
 
 FOLDER = pathlib.Path(__file__).resolve().parent.parent / "stakecrates"
 OUTS = ((2, 3, 15), (5, 2, 8), (7, 4, 20))
@@ -142,24 +144,12 @@ class AnyKindTest(unittest.TestCase):
                 self.assertIs(holds(claim, paper), claims.taken(claim, paper))
 
 
-def small_rows():
-    """Few OUTS and BACKS, some of them short."""
-    source = random.Random(31)
-    rows = list(itertools.product(small.all_outs((1, 3), (1, 2), (0, 4)), small.all_backs((0, 2, 3), (1, 2), 2)))
-    chosen = source.sample(rows, 260)
-    for turn in range(60):
-        days = sorted(source.sample(range(6), source.randrange(1, 4)))
-        outs = tuple((day, source.randrange(1, 4), source.choice((0, 3, 5, 9))) for day in days)
-        came = sorted(source.randrange(7) for one in range(source.randrange(4)))
-        chosen.append((outs, tuple((day, source.randrange(1, 3)) for day in came)))
-    return chosen
-
-
 class SmallRowsTest(unittest.TestCase):
     """What is taken is true, and of what is true some paper is taken, among all dealings."""
 
     def setUp(self):
-        self.rows = [(outs, backs, list(small.all_dealings(outs, backs))) for outs, backs in small_rows()]
+        rows = small.some_rows(31, 260, 60)
+        self.rows = [(outs, backs, list(small.all_dealings(outs, backs))) for outs, backs in rows]
 
     def test_dealt(self):
         for outs, backs, dealings in self.rows:
@@ -320,12 +310,7 @@ class RoomTest(unittest.TestCase):
         source = random.Random(33)
         for turn in range(60):
             stops = tuple((source.randrange(5), source.randrange(5)) for one in range(source.randrange(5)))
-            needs = {}
-            for order in claims.orders(len(stops)):
-                had = [sum(drop for drop, take in stops)]
-                for number in order:
-                    had.append(had[-1] - stops[number][0] + stops[number][1])
-                needs[order] = max(had)
+            needs = {order: counted_need([stops[number] for number in order]) for order in claims.orders(len(stops))}
             for order in needs:
                 for room in range(25):
                     told = needs[order] == room == min(needs.values())
@@ -435,7 +420,7 @@ def chain(balances):
 
 def by_groups(balances):
     """As few goings as can be: chains within as many groups as can be."""
-    best = max((parting for parting in claims.partings(list(balances))
+    best = max((parting for parting in partings(list(balances))
                 if all(sum(much for house, much in group) == 0 for group in parting)), key=len)
     return tuple(going for group in best for going in chain(group))
 
@@ -453,7 +438,8 @@ class ImportsTest(unittest.TestCase):
     def test_no_other_module_is_loaded(self):
         code = ("import sys, stakecrates.checker\n"
                 "print(*[name for name in sys.modules if name.startswith('stakecrates.')])")
-        ran = subprocess.run([sys.executable, "-c", code], cwd=FOLDER.parent, capture_output=True, text=True, check=True)
+        ran = subprocess.run([sys.executable, "-c", code], cwd=FOLDER.parent, capture_output=True, text=True,
+                             check=True)
         for name in ran.stdout.split():
             self.assertTrue(name.startswith("stakecrates.checker"), name)
         for path in FOLDER.glob("checker*.py"):

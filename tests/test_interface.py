@@ -21,6 +21,9 @@ FUNCTIONS = {
               "debts_on(rules, ledger, day)"],
     "rounds": ["need(stops)", "least_room(stops)"],
     "checker": ["holds(claim, paper)"],
+    "papers": ["paper_dealt(outs, backs)", "paper_elder(outs, backs, day)", "paper_most(outs, backs)",
+               "paper_least(outs, backs)", "paper_start(rows)", "paper_room(stops)", "paper_evened(debts)",
+               "paper_fewest(debts)"],
 }
 CLASSES = {
     "stakes": {"Stakes(rows=None)": ["stake(sort, day)", "changes(sort)", "sorts()", "put(sort, day, amount)"]},
@@ -31,6 +34,10 @@ CLASSES = {
         "places()", "bottle(at)", "filled(at, house, sort)", "emptied(at)", "inside()", "short_by()", "turned()",
         "worth(stakes, day, box=0)"]},
     "debts": {"Debts(rows=None)": ["owes(house, other)", "pairs()", "balances()", "plus(other)"]},
+    "yards": {"Yard(rules)": [
+        "enter(day, deed)", "undo()", "ledger()", "out(origin, sort, day)", "store(house, day)", "given(origin, sort)",
+        "debts(day)", "elder(origin, sort, day)", "sums(origin, sort)"]},
+    "desk": {"Desk(rules)": ["say(row)"]},
 }
 
 

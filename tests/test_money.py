@@ -234,11 +234,11 @@ class DebtsOnTest(things.Refusals, unittest.TestCase):
     def test_half_of_each_entry_is_rounded_up(self):
         one = ("broken", "b", "a", "x", 1, "store")
         for deeds, owed in (([one], 13), ([one, one], 26), ([one, one, one], 39),
-                            ([("broken", "b", "a", "x", 2, "store")], 25), ([("broken", "b", "a", "x", 3, "store")], 38),
+                            ([("broken", "b", "a", "x", 2, "store")], 25),
+                            ([("broken", "b", "a", "x", 3, "store")], 38),
                             ([one, ("broken", "b", "a", "x", 2, "store")], 38),
                             ([one, ("broken", "b", "a", "x", 1, "cart")], 26)):
-            for bears in (("both", "both"),):
-                self.check([("a", "b", 90), ("b", "a", owed)], rules_of(bears=bears), self.broken(*deeds), 6)
+            self.check([("a", "b", 90), ("b", "a", owed)], rules_of(bears=("both", "both")), self.broken(*deeds), 6)
 
     def test_the_stake_of_the_day_on_which_it_breaks(self):
         for day, owed in ((2, 10), (4, 10), (5, 25), (7, 25), (8, 7), (9, 7)):

@@ -44,7 +44,7 @@ NO_ROWS = ODDS + TRUTHS + NUMBERS + NAMES + WRONG_TEXTS
 class Refusals:
     """For test cases: what a call is refused with."""
 
-    def refused(self, error, deed, *places, **names):
+    def refused(self, error, deed, /, *places, **names):
         with self.assertRaises(error) as caught:
             deed(*places, **names)
         wrong = caught.exception
@@ -52,7 +52,7 @@ class Refusals:
         self.assertEqual(sum(isinstance(wrong, family) for family in FAMILIES), 1)
         return wrong
 
-    def refused_with(self, error, field, thing, deed, *places, **names):
+    def refused_with(self, error, field, thing, deed, /, *places, **names):
         """The field is the very thing, or a number or text of its kind."""
         told = getattr(self.refused(error, deed, *places, **names), field)
         self.assertIs(type(told), type(thing))
